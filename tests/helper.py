@@ -60,5 +60,36 @@ def trade_is_so(carry, fail, members, table):
     return all(c <= f for c, f in zip(carry_count, fail_count))
 
 
+def may_stand(one, other, members, table):
+    carrying = set(table)
+    for g in groups(members):
+        if one not in members_in(g) and other not in members_in(g):
+            if g + 2 ** other in carrying and g + 2 ** one not in carrying:
+                return False
+    return True
+
+
+def ranks_are_so(ranks, members, table):
+    if [] in ranks or sorted(sum(ranks, [])) != list(range(members)):
+        return False
+    own_and_later = [(a, b) for place, rank in enumerate(ranks) for a in rank for b in sum(ranks[place:], [])]
+    earlier = [(a, b) for place, rank in enumerate(ranks) for a in rank for b in sum(ranks[:place], [])]
+    return (all(may_stand(a, b, members, table) for a, b in own_and_later)
+            and not any(may_stand(a, b, members, table) for a, b in earlier))
+
+
+def unranked_is_so(one, other, first, second, table):
+    carrying = set(table)
+    if any(k in members_in(g) for k in (one, other) for g in (first, second)):
+        return False
+    return (first + 2 ** one in carrying and first + 2 ** other not in carrying
+            and second + 2 ** other in carrying and second + 2 ** one not in carrying)
+
+
+def text_of(members, table):
+    words = ["".join(str(k) for k in members_in(g)) if g > 0 else "-" for g in least_of(members, table)]
+    return " ".join([str(members) + ":"] + words)
+
+
 def every_council(members):
     return [(Council(members, table), table) for table in tables(members)]

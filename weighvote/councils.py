@@ -1,7 +1,8 @@
 """Councils: which groups carry, the least and the greatest groups, and councils made of others or of weights."""
 
 from weighvote.errors import BadCouncil, BadGroup, BadWeights, Unlike
-from weighvote.groups import MOST_MEMBERS, everybody, groups_of, has, is_group, is_whole, weight_of, within
+from weighvote.groups import MOST_MEMBERS, everybody, groups_of, has, is_group, is_whole, members_of
+from weighvote.groups import weight_of, with_member, within
 
 MOST_WEIGHT = 1000000
 MOST_QUOTA = 5000001
@@ -26,12 +27,12 @@ class Council:
         return [group for group in groups_of(self.members) if self.is_greatest(group)]
 
     def is_least(self, group):
-        inside = [member for member in range(self.members) if has(group, member)]
-        return self.carries(group) and not any([self.carries(group - (1 << member)) for member in inside])
+        smaller = [group - (1 << member) for member in members_of(group)]
+        return self.carries(group) and not any([self.carries(one) for one in smaller])
 
     def is_greatest(self, group):
-        outside = [member for member in range(self.members) if not has(group, member)]
-        return not self.carries(group) and all([self.carries(group + (1 << member)) for member in outside])
+        larger = [with_member(group, member) for member in range(self.members) if not has(group, member)]
+        return not self.carries(group) and all([self.carries(one) for one in larger])
 
 
 def refuse_bad_council(members, groups):

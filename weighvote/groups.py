@@ -12,6 +12,10 @@ def everybody(members):
     return (1 << members) - 1
 
 
+def is_member(value, members):
+    return is_whole(value, members - 1)
+
+
 def is_group(value, members):
     return is_whole(value, everybody(members))
 
@@ -22,6 +26,14 @@ def groups_of(members):
 
 def has(group, member):
     return (group >> member) & 1 == 1
+
+
+def members_of(group):
+    return [member for member in range(MOST_MEMBERS) if has(group, member)]
+
+
+def with_member(group, member):
+    return group | (1 << member)
 
 
 def within(small, large):
